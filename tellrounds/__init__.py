@@ -1,0 +1,1 @@
+"""Tellrounds: how fast a message spreads through a tree."""

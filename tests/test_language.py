@@ -1,0 +1,134 @@
+"""The rules of the language that can be read off the files of the package."""
+
+import ast
+import builtins
+import pathlib
+import re
+import unittest
+
+PACKAGE = pathlib.Path(__file__).resolve().parent.parent / "tellrounds"
+WORDS = (
+    "type typing typing_extensions enum Enum IntEnum StrEnum Flag IntFlag Generic Protocol ABC ABCMeta"
+    " namedtuple NamedTuple TypedDict TYPE_CHECKING abstractmethod"
+).split()
+PARTS_OF_WORDS = ("dataclass", "overload", "contextmanager")
+BUILTINS = (
+    "len range enumerate zip min max sum abs sorted reversed int str bool bytes list tuple dict set frozenset"
+    " isinstance ord repr any all divmod Exception ValueError TypeError KeyError IndexError LookupError"
+    " ZeroDivisionError ArithmeticError OverflowError RuntimeError NotImplementedError AttributeError"
+    " StopIteration NotImplemented iter next property staticmethod classmethod super"
+).split()
+SPECIAL = re.compile(r"__[a-z]+__")
+MODULE_LEVEL = (ast.ImportFrom, ast.FunctionDef, ast.ClassDef, ast.Assign)
+LEFT_OUT = (
+    ast.Global, ast.AsyncFunctionDef, ast.Await, ast.AsyncFor, ast.AsyncWith, ast.Import, ast.Div, ast.TryStar,
+)
+
+
+def files():
+    return sorted(PACKAGE.rglob("*.py"))
+
+
+def read(file):
+    return file.read_text(encoding="utf-8")
+
+
+def nodes_of(file):
+    return list(ast.walk(ast.parse(read(file))))
+
+
+def names_in(node):
+    """Return the names that the node itself binds or reads."""
+    if isinstance(node, ast.Name):
+        return [node.id]
+    if isinstance(node, ast.arg):
+        return [node.arg]
+    if isinstance(node, ast.Attribute):
+        return [node.attr]
+    if isinstance(node, (ast.FunctionDef, ast.ClassDef)):
+        return [node.name]
+    return []
+
+
+def top_names(module):
+    """Return the names that a module of the package defines itself."""
+    found = set()
+    for row in ast.parse(read(PACKAGE.parent / (module.replace(".", "/") + ".py"))).body:
+        if isinstance(row, (ast.FunctionDef, ast.ClassDef)):
+            found.add(row.name)
+        if isinstance(row, ast.Assign):
+            found.add(row.targets[0].id)
+    return found
+
+
+class FilesTest(unittest.TestCase):
+    def test_the_folder_holds_plain_files_only(self):
+        names = [file.name for file in PACKAGE.iterdir() if file.name != "__pycache__"]
+        self.assertIn("__init__.py", names)
+        for name in names:
+            self.assertRegex(name, r"^(__init__|[a-z][a-z0-9_]*)\.py$")
+
+    def test_characters_and_sizes(self):
+        for file in files():
+            with self.subTest(file=file.name):
+                text = read(file)
+                self.assertRegex(text, r"\A[ -~\n]*\Z")
+                lines = text.splitlines()
+                self.assertLess(len(lines), 400)
+                self.assertLessEqual(max(map(len, lines)), 120)
+                for node in nodes_of(file):
+                    if isinstance(node, ast.FunctionDef):
+                        self.assertLessEqual(node.end_lineno - node.lineno + 1, 40, node.name)
+
+    def test_words(self):
+        for file in files():
+            with self.subTest(file=file.name):
+                text = read(file)
+                self.assertEqual(set(re.findall(r"\w+", text)) & set(WORDS), set())
+                self.assertEqual([part for part in PARTS_OF_WORDS if part in text], [])
+
+    def test_strings(self):
+        for file in files():
+            for node in nodes_of(file):
+                if isinstance(node, ast.Constant):
+                    self.assertNotIsInstance(node.value, (float, complex))
+                    if isinstance(node.value, str):
+                        self.assertNotIn("%", node.value)
+
+
+class CodeTest(unittest.TestCase):
+    def test_module_level(self):
+        for file in files():
+            for at, row in enumerate(ast.parse(read(file)).body):
+                docstring = at == 0 and isinstance(row, ast.Expr) and isinstance(row.value, ast.Constant)
+                self.assertTrue(docstring or isinstance(row, MODULE_LEVEL), (file.name, row.lineno))
+
+    def test_statements(self):
+        for file in files():
+            for node in nodes_of(file):
+                self.assertNotIsInstance(node, LEFT_OUT, file.name)
+
+    def test_imports_name_the_file_that_defines_the_name(self):
+        for file in files():
+            for node in nodes_of(file):
+                if isinstance(node, ast.ImportFrom):
+                    self.assertRegex(node.module, r"^tellrounds\.[a-z_]+$")
+                    self.assertLessEqual({alias.name for alias in node.names}, top_names(node.module))
+
+    def test_names(self):
+        for file in files():
+            for node in nodes_of(file):
+                for name in names_in(node):
+                    if not SPECIAL.fullmatch(name):
+                        self.assertRegex(name, r"^[A-Za-z][A-Za-z0-9_]*$", file.name)
+
+    def test_builtins(self):
+        for file in files():
+            for node in nodes_of(file):
+                if isinstance(node, ast.Name) and hasattr(builtins, node.id):
+                    self.assertIn(node.id, BUILTINS, file.name)
+                    self.assertIsInstance(node.ctx, ast.Load, file.name)
+
+
+if __name__ == "__main__":
+    unittest.main()
