@@ -1,5 +1,7 @@
 """Trees to test with, and slow plain answers to compare with."""
 
+import functools
+import random
 from itertools import product
 
 T = (5, ((0, 1, 1), (1, 2, 1), (1, 3, 1), (3, 4, 1)))
@@ -64,6 +66,21 @@ def all_plain_trees(count):
     return [tree_of_code(code) for code in product(range(count), repeat=count - 2)]
 
 
+def mixed_trees(least, most, many, greatest, seed):
+    """Return trees of all shapes with delays from 1 to the greatest one: the same ones each time."""
+    source = random.Random(seed)
+    trees = []
+    for _ in range(many):
+        count = source.randint(least, most)
+        names = source.sample(range(count), count)
+        reach = source.randint(1, count)
+        trees.append(make_tree(count, [
+            (names[k], names[source.randint(max(0, k - reach), k - 1)], source.randint(1, greatest))
+            for k in range(1, count)
+        ]))
+    return trees
+
+
 ZIGZAG = [k // 2 if k % 2 == 0 else MOST - 1 - k // 2 for k in range(MOST)]
 
 LARGE_PLAIN = [
@@ -77,14 +94,19 @@ LARGE_PLAIN = [
 ]
 LARGE = LARGE_PLAIN + [vary_delays(tree) for tree in LARGE_PLAIN]
 SMALL = [tree for count in range(1, 6) for tree in all_plain_trees(count)]
+MIXED_SMALL = mixed_trees(2, 6, 60, 3, 1)
+MIXED_LARGE = mixed_trees(12, MOST, 20, 2, 2) + mixed_trees(MOST, MOST, 20, 5, 3) + mixed_trees(9, MOST, 5, GREATEST, 4)
 TREES = (
     [T, D, (2, ((0, 1, GREATEST),))]
     + SMALL
     + [vary_delays(tree) for tree in SMALL]
     + LARGE
 )
+# Small enough to try everything, large enough to have all forms.
+TRIED = [T, D] + SMALL + [vary_delays(tree) for tree in SMALL] + MIXED_SMALL
 
 
+@functools.cache
 def all_distances(tree):
     """Return the table of the distances, by shortening ways over each vertex in turn."""
     count, edges = tree

@@ -18,6 +18,9 @@ BUILTINS = (
     " ZeroDivisionError ArithmeticError OverflowError RuntimeError NotImplementedError AttributeError"
     " StopIteration NotImplemented iter next property staticmethod classmethod super"
 ).split()
+# With a class that compares, these take a list and no generator expression.
+ON_A_LIST = ("any", "all", "min", "max", "sum", "sorted")
+AT_ONCE = ("zip", "enumerate", "reversed", "range", "items", "keys", "values")
 SPECIAL = re.compile(r"__[a-z]+__")
 MODULE_LEVEL = (ast.ImportFrom, ast.FunctionDef, ast.ClassDef, ast.Assign)
 LEFT_OUT = (
@@ -48,6 +51,11 @@ def names_in(node):
     if isinstance(node, (ast.FunctionDef, ast.ClassDef)):
         return [node.name]
     return []
+
+
+def called(node):
+    """Return the name of what a call calls."""
+    return getattr(node.func, "id", getattr(node.func, "attr", None))
 
 
 def top_names(module):
@@ -114,6 +122,36 @@ class CodeTest(unittest.TestCase):
                 if isinstance(node, ast.ImportFrom):
                     self.assertRegex(node.module, r"^tellrounds\.[a-z_]+$")
                     self.assertLessEqual({alias.name for alias in node.names}, top_names(node.module))
+
+    def test_no_file_imports_from_itself_through_others(self):
+        imports = {}
+        for file in files():
+            rows = [node.module for node in nodes_of(file) if isinstance(node, ast.ImportFrom)]
+            imports["tellrounds." + file.stem] = rows
+        done = set()
+        while len(done) < len(imports):
+            ready = {name for name, rows in imports.items() if name not in done and set(rows) <= done}
+            self.assertTrue(ready, sorted(set(imports) - done))
+            done |= ready
+
+    def test_calls(self):
+        for file in files():
+            for node in nodes_of(file):
+                if isinstance(node, ast.Call) and called(node) in ON_A_LIST:
+                    found = [part for part in node.args if isinstance(part, ast.GeneratorExp)]
+                    self.assertEqual(found, [], (file.name, node.lineno))
+                if isinstance(node, ast.Call) and isinstance(node.func, ast.Attribute):
+                    self.assertNotEqual(node.func.attr, "sort", file.name)
+                    self.assertNotEqual(node.func.attr, "format", file.name)
+                if isinstance(node, (ast.Assign, ast.Return)) and isinstance(node.value, ast.Call):
+                    self.assertNotIn(called(node.value), AT_ONCE, (file.name, node.lineno))
+
+    def test_sets_are_not_iterated(self):
+        for file in files():
+            for node in nodes_of(file):
+                if isinstance(node, (ast.For, ast.comprehension)):
+                    self.assertNotIsInstance(node.iter, (ast.Set, ast.SetComp), file.name)
+                    self.assertFalse(isinstance(node.iter, ast.Call) and called(node.iter) == "set", file.name)
 
     def test_names(self):
         for file in files():

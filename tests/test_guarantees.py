@@ -1,0 +1,185 @@
+"""The guarantees of the document, on small trees by trying everything, and on large ones."""
+
+import unittest
+
+from tellrounds.growth import add_leaf, cut_branch, join_trees, joined_need, spare_of
+from tellrounds.needs import all_needs, branch_need, need_from
+from tellrounds.schedules import arrivals_of, best_schedule, finish_time, is_schedule, latest_arrivals
+from tellrounds.trees import branch_of
+from tellrounds.witnesses import check_certificate, find_witness, witness_value
+from tests.oracles import (
+    all_witnesses, delays_of, is_right_schedule, least_finish, right_arrivals, right_witness_value, schedules_until,
+)
+from tests.samples import (
+    D, LARGE, MIXED_LARGE, MIXED_SMALL, MOST, T, all_plain_trees, heap_tree, make_tree, mixed_trees, path_tree,
+    star_tree, vary_delays,
+)
+
+ONE = (1, ())
+TINY = [ONE, T, D] + [tree for count in (2, 3, 4) for tree in all_plain_trees(count)]
+TINY += [tree for tree in mixed_trees(2, 4, 12, 3, 8)]
+HUNG = [ONE, D, (2, ((0, 1, 1),)), path_tree(range(4)), star_tree(5, 2), star_tree(4, 0), heap_tree(7)]
+HUNG += MIXED_SMALL[:20]
+
+
+def late_schedules(tree, source):
+    """Yield schedules with waiting: of the best one, with all entries in the branch of a vertex moved on."""
+    entries = best_schedule(tree, source)
+    for vertex in range(tree[0]):
+        if vertex == source:
+            continue
+        for wait in (1, 2, 5, 1000):
+            moved = list(entries)
+            for k in range(tree[0]):
+                if k == vertex or k != source and vertex in path_to(tree, k, source):
+                    moved[k] += wait
+            if is_right_schedule(tree, source, tuple(moved)):
+                yield tuple(moved)
+
+
+def path_to(tree, vertex, source):
+    """Return the vertices between the vertex and the source, both included."""
+    delays = delays_of(tree)
+    rows = [(source,)]
+    for row in rows:
+        if row[-1] == vertex:
+            return row
+        rows.extend([(*row, k) for k in range(tree[0]) if (row[-1], k) in delays and k not in row])
+    return None
+
+
+class LeastAndGreatestTest(unittest.TestCase):
+    """(a)"""
+
+    def test_all_schedules_and_all_witnesses(self):
+        for tree in TINY:
+            for source in range(tree[0]):
+                need = need_from(tree, source)
+                finishes = [finish_time(tree, source, entries) for entries in schedules_until(tree, source, need)]
+                values = [witness_value(tree, source, witness) for witness in all_witnesses(tree, source)]
+                self.assertEqual(min(finishes), need, (tree, source))
+                self.assertEqual(max(values), need, (tree, source))
+
+    def test_all_orders_and_all_witnesses(self):
+        for tree in MIXED_SMALL:
+            for source in range(tree[0]):
+                values = [witness_value(tree, source, witness) for witness in all_witnesses(tree, source)]
+                self.assertEqual(max(values), least_finish(tree, source))
+
+    def test_accepted_numbers_show_the_need(self):
+        for tree in LARGE + MIXED_LARGE:
+            for source in range(tree[0]):
+                entries = best_schedule(tree, source)
+                witness = find_witness(tree, source)
+                self.assertIs(is_right_schedule(tree, source, entries), True)
+                self.assertEqual(max(right_arrivals(tree, source, entries)), need_from(tree, source))
+                self.assertEqual(right_witness_value(tree, source, witness), need_from(tree, source))
+                self.assertIs(check_certificate(tree, source, (entries, witness)), True)
+
+
+class LatestArrivalsTest(unittest.TestCase):
+    """(b)"""
+
+    def check(self, tree, source, entries, time):
+        latest = latest_arrivals(tree, source, time)
+        arrivals = arrivals_of(tree, source, entries)
+        in_time = latest is not None and all(a <= b for a, b in zip(arrivals, latest))
+        self.assertIs(in_time, finish_time(tree, source, entries) <= time, (tree, source, entries, time))
+
+    def test_all_schedules(self):
+        for tree in TINY:
+            for source in range(tree[0]):
+                need = need_from(tree, source)
+                for entries in schedules_until(tree, source, min(need + 2, 6)):
+                    for time in range(need + 4):
+                        self.check(tree, source, entries, time)
+
+    def test_large(self):
+        for tree in LARGE[::2] + MIXED_LARGE[::4]:
+            for source in (0, tree[0] // 2):
+                for entries in late_schedules(tree, source):
+                    finish = finish_time(tree, source, entries)
+                    for time in (need_from(tree, source), finish - 1, finish, finish + 1):
+                        self.check(tree, source, entries, time)
+
+
+class SameBranchTest(unittest.TestCase):
+    """(d)"""
+
+    def replace(self, tree, vertex, away, branch, end):
+        """Return the tree with another branch, and the places of the vertices outside of it."""
+        rest = cut_branch(tree, vertex, away)[1]
+        outside = branch_of(tree, away, vertex)
+        delay = delays_of(tree)[vertex, away]
+        return join_trees(rest, outside.index(away), branch, end, delay), outside
+
+    def test_a_branch_with_the_same_need(self):
+        found = 0
+        for tree in [T, D, *MIXED_SMALL[:20], *MIXED_LARGE[::8], *LARGE[:6]]:
+            needs = all_needs(tree)
+            for vertex, away in delays_of(tree):
+                need = branch_need(tree, vertex, away)
+                for branch in HUNG + [(2, ((0, 1, max(need, 1)),))]:
+                    for end in range(branch[0]):
+                        if need_from(branch, end) == need and len(branch_of(tree, away, vertex)) + branch[0] <= MOST:
+                            other, outside = self.replace(tree, vertex, away, branch, end)
+                            self.assertEqual(all_needs(other)[:len(outside)], tuple(needs[k] for k in outside))
+                            found += 1
+        self.assertGreater(found, 1000)
+
+
+class OneMoreLeafTest(unittest.TestCase):
+    """(f)"""
+
+    def test_every_vertex(self):
+        for tree in [ONE, T, D, *MIXED_SMALL, *LARGE, *MIXED_LARGE]:
+            needs = all_needs(tree)
+            for vertex in range(tree[0]):
+                for delay in (1, 2, 5, 10 ** 9):
+                    if tree[0] < MOST:
+                        grown = all_needs(add_leaf(tree, vertex, delay))
+                    else:
+                        grown = all_needs(make_tree(tree[0] + 1, [*tree[1], (vertex, tree[0], delay)]))
+                    for before, after in zip(needs, grown):
+                        self.assertLessEqual(before, after)
+                        self.assertLessEqual(after, before + delay)
+
+
+class JoinedTreeTest(unittest.TestCase):
+    """(g)"""
+
+    def test_the_need_follows_from_three_numbers(self):
+        for one in [ONE, T, D, *MIXED_SMALL[:30], *MIXED_LARGE[:20]]:
+            for other in [ONE, T, D, *MIXED_SMALL[:4]]:
+                if one[0] + other[0] > MOST:
+                    continue
+                for vertex in range(one[0]):
+                    need = need_from(one, vertex)
+                    spare = spare_of(one, vertex)
+                    for end in range(other[0]):
+                        for delay in (1, 2, 4):
+                            joined = need_from(join_trees(one, vertex, other, end, delay), vertex)
+                            self.assertEqual(joined, joined_need(need, spare, delay + need_from(other, end)))
+
+    def test_a_key_at_the_spare_and_next_to_it(self):
+        for one in [T, D, *MIXED_SMALL, *[tree for tree in MIXED_LARGE if tree[0] < MOST]]:
+            for vertex in range(one[0]):
+                need = need_from(one, vertex)
+                spare = spare_of(one, vertex)
+                for key in {spare - 1, spare, spare + 1, need - 1, need, need + 1, need + 2}:
+                    if key > 0:
+                        self.assertEqual(need_from(join_trees(one, vertex, ONE, 0, key), vertex),
+                                         joined_need(need, spare, key))
+
+
+class SmallDelaysTest(unittest.TestCase):
+    def test_best_schedules_with_many_delays(self):
+        for tree in [vary_delays(tree) for tree in TINY]:
+            for source in range(tree[0]):
+                entries = best_schedule(tree, source)
+                self.assertIs(is_schedule(tree, source, entries), True)
+                self.assertEqual(finish_time(tree, source, entries), least_finish(tree, source))
+
+
+if __name__ == "__main__":
+    unittest.main()

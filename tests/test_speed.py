@@ -1,0 +1,67 @@
+"""No function takes noticeably long on a tree with the greatest number of vertices."""
+
+import time
+import unittest
+
+from tellrounds import growth, needs, schedules, trees, witnesses
+from tests.samples import LARGE, MIXED_LARGE, MOST
+
+# Far more than any of these calls takes, so that a busy machine does not matter.
+SECONDS = 0.5
+
+
+def calls_for(tree):
+    """Return (name, function without arguments) for calls of each function."""
+    last = tree[0] - 1
+    away = trees.neighbours_of(tree, last)[0]
+    best = schedules.best_schedule(tree, last)
+    witness = witnesses.find_witness(tree, last)
+    small = (1, ())
+    branch, rest = growth.cut_branch(tree, last, away)
+    return [
+        ("find_fault", lambda: trees.find_fault(tree)),
+        ("is_plain", lambda: trees.is_plain(tree)),
+        ("neighbours_of", lambda: trees.neighbours_of(tree, last)),
+        ("path_between", lambda: trees.path_between(tree, 0, last)),
+        ("distance_between", lambda: trees.distance_between(tree, 0, last)),
+        ("branch_of", lambda: trees.branch_of(tree, last, away)),
+        ("branch_need", lambda: needs.branch_need(tree, away, last)),
+        ("need_from", lambda: needs.need_from(tree, last)),
+        ("all_needs", lambda: needs.all_needs(tree)),
+        ("call_order", lambda: needs.call_order(tree, last, away)),
+        ("best_sources", lambda: needs.best_sources(tree)),
+        ("select_sources", lambda: needs.select_sources(tree, least=1, most=9, degree=1)),
+        ("is_schedule", lambda: schedules.is_schedule(tree, last, best)),
+        ("arrivals_of", lambda: schedules.arrivals_of(tree, last, best)),
+        ("finish_time", lambda: schedules.finish_time(tree, last, best)),
+        ("best_schedule", lambda: schedules.best_schedule(tree, last)),
+        ("latest_arrivals", lambda: schedules.latest_arrivals(tree, last, 10 ** 30 - 1)),
+        ("walk_calls", lambda: list(schedules.walk_calls(tree, last))),
+        ("witness_value", lambda: witnesses.witness_value(tree, last, witness)),
+        ("find_witness", lambda: witnesses.find_witness(tree, last)),
+        ("check_certificate", lambda: witnesses.check_certificate(tree, last, (best, witness))),
+        ("add_leaf", lambda: growth.add_leaf(rest, 0, 1)),
+        ("drop_leaf", lambda: growth.drop_leaf(tree, leaf_of(tree))),
+        ("spare_of", lambda: growth.spare_of(tree, last)),
+        ("free_vertices", lambda: growth.free_vertices(tree, last, 1)),
+        ("join_trees", lambda: growth.join_trees(rest, 0, branch, 0, 1)),
+        ("join_all", lambda: growth.join_all(*[small] * MOST)),
+        ("cut_branch", lambda: growth.cut_branch(tree, last, away)),
+    ]
+
+
+def leaf_of(tree):
+    return [k for k in range(tree[0]) if len(trees.neighbours_of(tree, k)) == 1][0]
+
+
+class SpeedTest(unittest.TestCase):
+    def test_each_function(self):
+        for tree in LARGE + [tree for tree in MIXED_LARGE if tree[0] == MOST]:
+            for name, call in calls_for(tree):
+                before = time.process_time()
+                call()
+                self.assertLess(time.process_time() - before, SECONDS, (name, tree))
+
+
+if __name__ == "__main__":
+    unittest.main()
