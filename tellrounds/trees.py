@@ -47,14 +47,24 @@ def find_edge_fault(count, edge, path):
         return (*path, 0), "one"
     if not is_between(other, one + 1, count - 1):
         return (*path, 1), "other"
-    if not is_between(delay, 1, DELAY):
+    if not is_delay(delay):
         return (*path, 2), "delay"
     return None
+
+
+def is_delay(value):
+    """Return whether any value is a delay."""
+    return is_between(value, 1, DELAY)
 
 
 def merge_groups(groups, kept, merged):
     """Return the groups after all members of one group have joined another one."""
     return [kept if group == merged else group for group in groups]
+
+
+def tree_of(count, edges):
+    """Return the tree with these edges, which are given in any order and direction."""
+    return count, tuple(sorted([(min(one, other), max(one, other), delay) for one, other, delay in edges]))
 
 
 def is_plain(tree):

@@ -4,6 +4,7 @@ import doctest
 import pathlib
 import unittest
 
+from tellrounds.errors import NoSuchEdge, NoSuchStep, NoSuchVertex, TellError
 from tests.samples import D, T
 
 EXAMPLES = {
@@ -133,6 +134,121 @@ True
 >>> list(walk_calls(T, 1))
 [(0, 1, 3), (1, 1, 0), (1, 3, 4), (2, 1, 2)]
 """,
+    35: """
+>>> from tellrounds.changes import set_delay
+>>> set_delay(D, 2, 0, 4)
+(3, ((0, 1, 5), (0, 2, 4)))
+""",
+    36: """
+>>> from tellrounds.changes import move_branch
+>>> move_branch(T, 3, 1, 0)
+(5, ((0, 1, 1), (0, 3, 1), (1, 2, 1), (3, 4, 1)))
+""",
+    37: """
+>>> from tellrounds.changes import relabel_tree
+>>> relabel_tree(D, (2, 0, 1))
+(3, ((0, 1, 1), (1, 2, 5)))
+""",
+    38: """
+>>> from tellrounds.changes import stretch_tree
+>>> stretch_tree(D, 2)
+(3, ((0, 1, 10), (0, 2, 2)))
+""",
+    40: """
+>>> from tellrounds.books import Book
+>>> Book((2, ((0, 1, 0),)))
+raises InvalidTree((1, 0, 2), 'delay')
+""",
+    41: """
+>>> from tellrounds.books import Book
+>>> B = Book(T)
+>>> B.change_delay(0, 2, 5)
+raises NoSuchEdge(0, 2)
+""",
+    42: """
+>>> from tellrounds.books import Book
+>>> B = Book(T)
+>>> B.move(3, 1, 4)
+raises InBranch(4)
+""",
+    43: """
+>>> from tellrounds.books import Book
+>>> B = Book(T)
+>>> B.undo()
+raises NothingToUndo()
+""",
+    44: """
+>>> from tellrounds.books import Book
+>>> B = Book(T)
+>>> B.run([('grow', 0, 1), ('prune', 1)])
+raises BatchFailed(1)
+""",
+    45: """
+>>> from tellrounds.books import Book
+>>> B = Book(T)
+>>> B.run([('grow', 0, 1)])
+>>> B.log()
+(('begin', 1), ('end', 1))
+""",
+    46: """
+>>> from tellrounds.books import Book
+>>> B = Book(T)
+>>> B.start_at(4)
+>>> B.prune(4)
+>>> B.source
+0
+""",
+    47: """
+>>> from tellrounds.books import Book
+>>> B = Book(T)
+>>> B.start_at(4)
+>>> B.need, B.best
+(4, (0, 1, 2, 3))
+""",
+    48: """
+>>> from tellrounds.books import Book
+>>> B = Book(T)
+>>> B.grow(0, 2)
+>>> B.actions(), B.needs()
+((('grow', 0, 2),), (3, 3, 4, 4, 5, 5))
+""",
+    49: """
+>>> from tellrounds.books import Book
+>>> B = Book(T)
+>>> B.state_at(0) == T
+True
+""",
+    50: """
+>>> from tellrounds.books import Book
+>>> Book.size_of('move'), Book.size_of('undo'), len(Book.single())
+(3, None, 0)
+""",
+    51: """
+>>> from tellrounds.books import SwiftBook
+>>> B = SwiftBook(T, 3)
+>>> B.grow(1, 1)
+raises TooSlow(4)
+""",
+    52: """
+>>> from tellrounds.books import Book, SwiftBook
+>>> str(Book(T)), Book(T) == SwiftBook(T)
+('5 vertices, need 3 from 0, 0 actions', False)
+""",
+    53: """
+>>> from tellrounds.texts import format_schedule
+>>> format_schedule((1, None, 2))
+'1 - 2'
+""",
+    54: """
+>>> from tellrounds.texts import parse_schedule
+>>> parse_schedule('1 - -')
+raises ParseError(2)
+""",
+    55: """
+>>> from tellrounds.texts import parse_tree
+>>> parse_tree('vertices 2\\nedge 0 1 5')
+raises ParseError(2)
+""",
 }
 
 README = pathlib.Path(__file__).resolve().parent.parent / "README.md"
@@ -145,7 +261,10 @@ def show_outcome(source, names):
     except SyntaxError:
         exec(source, names)
         return ""
-    value = eval(code, names)
+    try:
+        value = eval(code, names)
+    except (TellError, NoSuchVertex, NoSuchEdge, NoSuchStep) as error:
+        return f"raises {error!r}\n"
     return "" if value is None else repr(value) + "\n"
 
 

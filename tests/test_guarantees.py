@@ -1,12 +1,16 @@
 """The guarantees of the document, on small trees by trying everything, and on large ones."""
 
+import random
 import unittest
 
+from tellrounds.books import Book
 from tellrounds.growth import add_leaf, cut_branch, join_trees, joined_need, spare_of
 from tellrounds.needs import all_needs, branch_need, need_from
 from tellrounds.schedules import arrivals_of, best_schedule, finish_time, is_schedule, latest_arrivals
+from tellrounds.texts import format_tree
 from tellrounds.trees import branch_of
 from tellrounds.witnesses import check_certificate, find_witness, witness_value
+from tests.model import answers_of, outcome_of
 from tests.oracles import (
     all_witnesses, delays_of, is_right_schedule, least_finish, right_arrivals, right_witness_value, schedules_until,
 )
@@ -170,6 +174,60 @@ class JoinedTreeTest(unittest.TestCase):
                     if key > 0:
                         self.assertEqual(need_from(join_trees(one, vertex, ONE, 0, key), vertex),
                                          joined_need(need, spare, key))
+
+
+class SameAnswersTest(unittest.TestCase):
+    """(i)"""
+
+    def check_same(self, book):
+        fresh = Book(book.tree())
+        fresh.start_at(book.source)
+        read = Book.read(format_tree(book.tree()))
+        for one, other in ((book, fresh), (book.copy(), fresh), (read, Book(book.tree()))):
+            self.assertEqual(one.tree(), other.tree())
+            self.assertEqual(one.needs(), other.needs())
+            self.assertEqual(one.need, other.need)
+            self.assertEqual(one.best, other.best)
+            self.assertEqual(one.schedule(), other.schedule())
+            self.assertEqual(list(one.walk()), list(other.walk()))
+
+    def calls_for(self, source, tree):
+        vertex, away, target = [source.randrange(tree[0]) for _ in range(3)]
+        near = [b if a == vertex else a for a, b, _ in tree[1] if vertex in (a, b)]
+        away = source.choice(near or [away])
+        delay = source.choice([1, 1, 2, 3, 9])
+        return [("grow", vertex, delay), ("prune", vertex), ("move", vertex, away, target),
+                ("change_delay", vertex, away, delay)]
+
+    def test_after_any_actions_and_undos(self):
+        for seed, tree in enumerate([ONE, T, D, *MIXED_SMALL[:6], *LARGE[::4], *MIXED_LARGE[:4]]):
+            source = random.Random(seed)
+            for asked in (False, True):
+                book = Book(tree)
+                for _ in range(40):
+                    action = source.choice(self.calls_for(source, book.tree()))
+                    kind = source.randrange(8)
+                    if kind == 0:
+                        outcome_of(book.undo)
+                    elif kind == 1:
+                        book.start_at(source.randrange(book.tree()[0]))
+                    elif kind == 2:
+                        outcome_of(book.run, [action, source.choice(self.calls_for(source, book.tree()))])
+                    else:
+                        outcome_of(getattr(book, action[0]), *action[1:])
+                    if asked:
+                        self.check_same(book)
+                self.check_same(book)
+
+    def test_undo_returns_to_what_was_answered_before(self):
+        for tree in [T, D, *MIXED_SMALL[:10], *MIXED_LARGE[:4]]:
+            book = Book(tree)
+            before = answers_of(book)
+            for action in self.calls_for(random.Random(tree[0]), tree):
+                if outcome_of(getattr(book, action[0]), *action[1:]) is None:
+                    answers_of(book)
+                    book.undo()
+                    self.assertEqual(answers_of(book), before)
 
 
 class SmallDelaysTest(unittest.TestCase):

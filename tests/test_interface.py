@@ -45,7 +45,47 @@ FUNCTIONS = {
         join_all(first, *others, delay=1)
         cut_branch(tree, vertex, away)
     """,
+    "changes": """
+        set_delay(tree, vertex, away, delay)
+        move_branch(tree, vertex, away, target)
+        relabel_tree(tree, order)
+        stretch_tree(tree, factor)
+    """,
+    "texts": """
+        format_schedule(schedule)
+        format_tree(tree)
+        parse_schedule(value)
+        parse_tree(value)
+    """,
 }
+BOOK = """
+    change_delay(self, vertex, away, delay)
+    grow(self, vertex, delay)
+    prune(self, vertex)
+    move(self, vertex, away, target)
+    undo(self)
+    run(self, batch, *, on_step=None)
+    log(self)
+    source(self)
+    start_at(self, value)
+    need(self)
+    best(self)
+    tree(self)
+    needs(self)
+    schedule(self)
+    walk(self)
+    actions(self)
+    state_at(self, step)
+    read(cls, text)
+    single(cls)
+    size_of(name)
+    copy(self)
+"""
+CLASSES = {
+    ("books", "Book", "(tree)"): BOOK,
+    ("books", "SwiftBook", "(tree, most=None)"): "copy(self)",
+}
+SPECIAL = {"Book": ("__init__", "__len__", "__eq__", "__str__"), "SwiftBook": ("__init__",)}
 
 
 class InterfaceTest(unittest.TestCase):
@@ -59,6 +99,23 @@ class InterfaceTest(unittest.TestCase):
                     function = form.strip().split("(")[0]
                     self.assertEqual(defined.count(function), 1)
                     self.assertEqual(function + str(inspect.signature(getattr(module, function))), form.strip())
+
+    def test_classes(self):
+        for (name, kind, form), methods in CLASSES.items():
+            module = importlib.import_module("tellrounds." + name)
+            rows = ast.parse(inspect.getsource(module)).body
+            found = [row for row in rows if isinstance(row, ast.ClassDef) and row.name == kind]
+            self.assertEqual(len(found), 1)
+            self.assertEqual(str(inspect.signature(getattr(module, kind))), form)
+            defined = {row.name: row for row in found[0].body if isinstance(row, ast.FunctionDef)}
+            for method in methods.strip().splitlines():
+                with self.subTest(kind=kind, method=method):
+                    self.assertEqual(form_of(defined[method.strip().split("(")[0]]), method.strip())
+            self.assertLessEqual(set(SPECIAL[kind]), set(defined))
+
+
+def form_of(row):
+    return f"{row.name}({ast.unparse(row.args)})"
 
 
 if __name__ == "__main__":

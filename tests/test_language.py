@@ -22,6 +22,20 @@ BUILTINS = (
 ON_A_LIST = ("any", "all", "min", "max", "sum", "sorted")
 AT_ONCE = ("zip", "enumerate", "reversed", "range", "items", "keys", "values")
 SPECIAL = re.compile(r"__[a-z]+__")
+SPECIAL_METHODS = ("__init__", "__eq__", "__len__", "__str__")
+DECORATORS = ("property", "staticmethod", "classmethod")
+METHODS_OF_VALUES = (
+    "append clear copy count endswith extend find get index insert isalnum isalpha isdigit islower isspace isupper"
+    " items join keys ljust lower lstrip partition pop remove replace reverse rfind rjust rpartition rsplit rstrip"
+    " setdefault split splitlines startswith strip update upper values zfill bit_length isascii"
+).split()
+NOT_USED = (
+    "register mro elements open input law version_info with_traceback add_note attrgetter breakpoint builtins compile"
+    " copyright credits delattr dir eval exec exit gc getattr globals hasattr help id importlib license locals"
+    " methodcaller os quit setattr type vars sys"
+).split()
+IN_FINALLY = (ast.Assign, ast.Pass)
+SIMPLE = (ast.Name, ast.Attribute, ast.Constant, ast.Tuple, ast.List, ast.BinOp, ast.Add, ast.Load, ast.Store)
 MODULE_LEVEL = (ast.ImportFrom, ast.FunctionDef, ast.ClassDef, ast.Assign)
 LEFT_OUT = (
     ast.Global, ast.AsyncFunctionDef, ast.Await, ast.AsyncFor, ast.AsyncWith, ast.Import, ast.Div, ast.TryStar,
@@ -56,6 +70,32 @@ def names_in(node):
 def called(node):
     """Return the name of what a call calls."""
     return getattr(node.func, "id", getattr(node.func, "attr", None))
+
+
+def classes():
+    return [node for file in files() for node in nodes_of(file) if isinstance(node, ast.ClassDef)]
+
+
+def methods_of(node):
+    return [row for row in node.body if isinstance(row, ast.FunctionDef)]
+
+
+def attributes_in(node):
+    """Return the names of the attributes that are assigned somewhere in a class."""
+    return {part.attr for part in ast.walk(node) if isinstance(part, ast.Attribute) and isinstance(part.ctx, ast.Store)}
+
+
+def binds(function):
+    """Return the parameters, local variables and nested functions of a function."""
+    found = set()
+    for node in ast.walk(function):
+        if isinstance(node, ast.arg):
+            found.add(node.arg)
+        if isinstance(node, ast.Name) and isinstance(node.ctx, ast.Store):
+            found.add(node.id)
+        if isinstance(node, ast.FunctionDef) and node is not function:
+            found.add(node.name)
+    return found
 
 
 def top_names(module):
@@ -166,6 +206,110 @@ class CodeTest(unittest.TestCase):
                 if isinstance(node, ast.Name) and hasattr(builtins, node.id):
                     self.assertIn(node.id, BUILTINS, file.name)
                     self.assertIsInstance(node.ctx, ast.Load, file.name)
+
+    def test_names_that_are_not_used(self):
+        for file in files():
+            for node in nodes_of(file):
+                for name in names_in(node):
+                    self.assertNotIn(name, NOT_USED, file.name)
+
+    def test_is(self):
+        for file in files():
+            for node in nodes_of(file):
+                if isinstance(node, ast.Compare):
+                    for sign, part in zip(node.ops, node.comparators):
+                        if isinstance(sign, (ast.Is, ast.IsNot)):
+                            self.assertIsInstance(part, ast.Constant, (file.name, node.lineno))
+
+    def test_powers(self):
+        for file in files():
+            for node in nodes_of(file):
+                if isinstance(node, ast.BinOp) and isinstance(node.op, ast.Pow):
+                    self.assertIsInstance(node.right, ast.Constant, (file.name, node.lineno))
+                    self.assertIn(node.right.value, range(65), (file.name, node.lineno))
+
+    def test_local_names_differ_from_classes_and_imports(self):
+        for file in files():
+            nodes = nodes_of(file)
+            taken = {alias.name for node in nodes if isinstance(node, ast.ImportFrom) for alias in node.names}
+            taken |= {node.name for node in nodes if isinstance(node, ast.ClassDef)}
+            for node in nodes:
+                if isinstance(node, ast.FunctionDef):
+                    self.assertEqual(binds(node) & taken, set(), (file.name, node.name))
+
+    def test_handlers_name_own_errors(self):
+        own = top_names("tellrounds.errors")
+        for file in files():
+            for node in nodes_of(file):
+                if isinstance(node, ast.ExceptHandler):
+                    kinds = node.type.elts if isinstance(node.type, ast.Tuple) else [node.type]
+                    self.assertLessEqual({kind.id for kind in kinds}, own, (file.name, node.lineno))
+
+    def test_errors_are_created_on_the_spot(self):
+        own = top_names("tellrounds.errors")
+        for file in files():
+            for node in nodes_of(file):
+                if isinstance(node, ast.Raise) and node.exc is not None:
+                    self.assertIsInstance(node.exc, ast.Call, (file.name, node.lineno))
+                    self.assertIn(node.exc.func.id, own, (file.name, node.lineno))
+
+    def test_finally(self):
+        for file in files():
+            for node in nodes_of(file):
+                for row in getattr(node, "finalbody", []):
+                    self.assertIsInstance(row, IN_FINALLY, (file.name, row.lineno))
+                    for part in list(ast.walk(row))[1:]:
+                        self.assertIsInstance(part, SIMPLE, (file.name, row.lineno))
+
+
+class ClassesTest(unittest.TestCase):
+    def test_special_methods_and_decorators(self):
+        for node in classes():
+            self.assertEqual(node.decorator_list, [])
+            for row in methods_of(node):
+                if SPECIAL.fullmatch(row.name):
+                    self.assertIn(row.name, SPECIAL_METHODS)
+                for decorator in row.decorator_list:
+                    self.assertIn(decorator.id, DECORATORS, row.name)
+
+    def test_no_name_is_a_method_and_an_attribute(self):
+        methods = {row.name for node in classes() for row in methods_of(node)}
+        attributes = {name for node in classes() for name in attributes_in(node)}
+        self.assertEqual(methods & attributes, set())
+        values = {row.targets[0].id for node in classes() for row in node.body if isinstance(row, ast.Assign)}
+        self.assertEqual(values & (methods | attributes), set())
+
+    def test_no_method_is_defined_twice(self):
+        for node in classes():
+            names = [row.name for row in methods_of(node)]
+            self.assertEqual(len(names), len(set(names)), node.name)
+
+    def test_methods_that_are_called(self):
+        own = {row.name for node in classes() for row in methods_of(node)}
+        for file in files():
+            for node in nodes_of(file):
+                if isinstance(node, ast.Call) and isinstance(node.func, ast.Attribute):
+                    self.assertIn(node.func.attr, [*own, *METHODS_OF_VALUES], (file.name, node.lineno))
+
+    def test_attributes_that_are_read_are_assigned(self):
+        known = {name for node in classes() for name in attributes_in(node)}
+        known |= {row.name for node in classes() for row in methods_of(node)}
+        known |= {row.targets[0].id for node in classes() for row in node.body if isinstance(row, ast.Assign)}
+        for file in files():
+            for node in nodes_of(file):
+                if isinstance(node, ast.Attribute):
+                    self.assertIn(node.attr, [*known, *METHODS_OF_VALUES], (file.name, node.lineno))
+
+    def test_what_the_special_methods_return(self):
+        for node in classes():
+            for row in methods_of(node):
+                if row.name in ("__len__", "__str__", "__eq__"):
+                    last = row.body[-1]
+                    self.assertIsInstance(last, ast.Return, row.name)
+                    assigned = [part for part in ast.walk(row) if isinstance(part, (ast.Assign, ast.AugAssign))]
+                    self.assertEqual(assigned, [], row.name)
+                if row.name == "__init__":
+                    self.assertEqual([part for part in ast.walk(row) if isinstance(part, ast.Return)], [])
 
 
 if __name__ == "__main__":

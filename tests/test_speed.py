@@ -3,7 +3,10 @@
 import time
 import unittest
 
-from tellrounds import growth, needs, schedules, trees, witnesses
+from tellrounds import changes, growth, needs, schedules, texts, trees, witnesses
+from tellrounds.books import Book, SwiftBook
+from tellrounds.bounds import BATCH
+from tests.model import answers_of
 from tests.samples import LARGE, MIXED_LARGE, MOST
 
 # Far more than any of these calls takes, so that a busy machine does not matter.
@@ -47,6 +50,14 @@ def calls_for(tree):
         ("join_trees", lambda: growth.join_trees(rest, 0, branch, 0, 1)),
         ("join_all", lambda: growth.join_all(*[small] * MOST)),
         ("cut_branch", lambda: growth.cut_branch(tree, last, away)),
+        ("set_delay", lambda: changes.set_delay(tree, last, away, 7)),
+        ("move_branch", lambda: changes.move_branch(tree, last, away, away)),
+        ("relabel_tree", lambda: changes.relabel_tree(tree, tuple(range(last, -1, -1)))),
+        ("stretch_tree", lambda: changes.stretch_tree(tree, 1)),
+        ("format_schedule", lambda: texts.format_schedule(best)),
+        ("format_tree", lambda: texts.format_tree(tree)),
+        ("parse_schedule", lambda: texts.parse_schedule(texts.format_schedule(best))),
+        ("parse_tree", lambda: texts.parse_tree(texts.format_tree(tree))),
     ]
 
 
@@ -61,6 +72,34 @@ class SpeedTest(unittest.TestCase):
                 before = time.process_time()
                 call()
                 self.assertLess(time.process_time() - before, SECONDS, (name, tree))
+
+    def test_long_texts(self):
+        for text in ("7" * 4000 + " -", "1 " * 2000 + "-", "-" + " 123456789" * 400):
+            before = time.process_time()
+            self.assertEqual(texts.format_schedule(texts.parse_schedule(text)), text)
+            self.assertLess(time.process_time() - before, SECONDS)
+
+    def test_sixty_actions_each_followed_by_every_query(self):
+        for tree in LARGE[::2]:
+            for book in (Book(tree), SwiftBook(tree, 10 ** 20)):
+                one, other, _ = tree[1][-1]
+                slowest = 0
+                for k in range(Book.LIMIT):
+                    before = time.process_time()
+                    book.change_delay(one, other, k + 1)
+                    book.start_at(k % tree[0])
+                    answers_of(book)
+                    slowest = max(slowest, time.process_time() - before)
+                self.assertLess(slowest, SECONDS, tree)
+
+    def test_batches(self):
+        for tree in LARGE[::2]:
+            one, other, _ = tree[1][-1]
+            book = SwiftBook(tree, 10 ** 20)
+            before = time.process_time()
+            for _ in range(3):
+                book.run([("change_delay", one, other, 3)] * BATCH, on_step=lambda same: same.needs())
+            self.assertLess(time.process_time() - before, 2 * SECONDS, tree)
 
 
 if __name__ == "__main__":
