@@ -193,7 +193,8 @@ class Book:
 
     def copy(self):
         """Return an equal book of the same class with its own actions, idle and with an empty log."""
-        copied = self.of_tree(self.states[-1])
+        # The class has taken the first tree before, whatever else it asks of a tree.
+        copied = self.of_tree(self.states[0])
         copied.states = self.states
         copied.kept = self.kept
         copied.start = self.start

@@ -137,3 +137,66 @@ def rename(tree, names):
     """Return the tree with names[k] in the place of vertex k."""
     edges = [(min(names[a], names[b]), max(names[a], names[b]), delay) for a, b, delay in tree[1]]
     return tree[0], tuple(sorted(edges))
+
+
+def is_right_collection(tree, target, value):
+    """Return whether a value is a collection at the target, message by message."""
+    if type(value) is not tuple or len(value) != tree[0]:
+        return False
+    if value[target] is not None:
+        return False
+    for vertex, entry in enumerate(value):
+        if vertex != target and (type(entry) is not int or entry < 0):
+            return False
+    table = all_distances(tree)
+    for vertex in range(tree[0]):
+        received = []
+        for (one, other), delay in delays_of(tree).items():
+            if other == vertex and table[one][target] > table[vertex][target]:
+                received.append(value[one] + delay)
+        if len(set(received)) < len(received):
+            return False
+        if vertex != target and received and max(received) > value[vertex]:
+            return False
+    return True
+
+
+def right_collect_time(tree, target, value):
+    """Return the greatest time at which a message is received."""
+    callers = callers_by_distance(tree, target)
+    delays = delays_of(tree)
+    return max([value[k] + delays[k, callers[k]] for k in range(tree[0]) if k != target], default=0)
+
+
+def collections_until(tree, target, time):
+    """Yield all collections in which each message is received at the time or earlier, by trying all entries."""
+    choices = [[None] if vertex == target else range(time) for vertex in range(tree[0])]
+    for entries in product(*choices):
+        if is_right_collection(tree, target, entries) and right_collect_time(tree, target, entries) <= time:
+            yield entries
+
+
+def count_by_orders(tree, source, time):
+    """Return the number of schedules that finish in time: for each order of calls, by their rising starts."""
+    callees = callees_of(callers_by_distance(tree, source))
+    delays = delays_of(tree)
+
+    @functools.cache
+    def count_from(vertex, left):
+        if left < 0:
+            return 0
+        return sum(count_rising(vertex, order, left) for order in permutations(callees[vertex]))
+
+    @functools.cache
+    def count_rising(vertex, order, left):
+        """Count the ways in which the calls begin in this order, each later than the one before it."""
+        if not order:
+            return 1
+        total = 0
+        for start in range(left):
+            behind = count_from(order[0], left - start - delays[vertex, order[0]])
+            if behind:
+                total += behind * count_rising(vertex, order[1:], left - start - 1)
+        return total
+
+    return count_from(source, time)

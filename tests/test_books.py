@@ -436,6 +436,15 @@ class Quick(SwiftBook):
         super().__init__(tree, 3)
 
 
+class Small(Book):
+    """A subclass that is created with small trees only."""
+
+    def __init__(self, tree):
+        super().__init__(tree)
+        if tree[0] > 5:
+            raise KeyError(tree[0])
+
+
 class ClassMethodsTest(BookTest):
     def test_kinds(self):
         for name in ("read", "single"):
@@ -535,6 +544,10 @@ class CopyTest(BookTest):
             twin.undo()
             self.assertEqual(twin.tree(), T)
             self.assertEqual(len(book), 1)
+        book = Small(T)
+        book.grow(0, 1)
+        self.assertIs(type(book.copy()), Small)
+        self.assertEqual(book.copy(), book)
 
 
 class EqualityTest(BookTest):

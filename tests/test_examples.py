@@ -73,6 +73,11 @@ EXAMPLES = {
 >>> latest_arrivals(T, 1, 3), latest_arrivals(T, 4, 3)
 ((3, 0, 3, 2, 3), None)
 """,
+    18: """
+>>> from tellrounds.counting import count_schedules
+>>> count_schedules(T, 1, 2), count_schedules(T, 1, 3)
+(0, 6)
+""",
     19: """
 >>> from tellrounds.witnesses import witness_value
 >>> witness_value(T, 1, (1, ((0, ()), (2, ()), (3, ())))), witness_value(T, 1, (0, ()))
@@ -88,6 +93,31 @@ EXAMPLES = {
 >>> from tellrounds.witnesses import check_certificate, find_witness
 >>> check_certificate(T, 1, (best_schedule(T, 1), find_witness(T, 1)))
 True
+""",
+    22: """
+>>> from tellrounds.plains import source_star
+>>> source_star(T)
+(1, (0, 2, 3))
+""",
+    23: """
+>>> from tellrounds.plains import full_tree
+>>> full_tree(2)
+(4, ((0, 1, 1), (0, 2, 1), (2, 3, 1)))
+""",
+    24: """
+>>> from tellrounds.collecting import is_collection
+>>> is_collection(T, 1, (0, None, 1, 2, 0)), is_collection(T, 1, (0, None, 0, 2, 0))
+(True, False)
+""",
+    25: """
+>>> from tellrounds.collecting import collect_time
+>>> collect_time(T, 1, (0, None, 1, 2, 0))
+3
+""",
+    26: """
+>>> from tellrounds.collecting import reverse_schedule
+>>> reverse_schedule(T, 1, (1, None, 2, 0, 1))
+(1, None, 0, 2, 1)
 """,
     27: """
 >>> from tellrounds.growth import drop_leaf
@@ -129,11 +159,6 @@ True
 >>> select_sources(T), select_sources(T, most=3, degree=1), select_sources(T, least=4)
 ((0, 1, 2, 3, 4), (0, 2), (4,))
 """,
-    39: """
->>> from tellrounds.schedules import walk_calls
->>> list(walk_calls(T, 1))
-[(0, 1, 3), (1, 1, 0), (1, 3, 4), (2, 1, 2)]
-""",
     35: """
 >>> from tellrounds.changes import set_delay
 >>> set_delay(D, 2, 0, 4)
@@ -153,6 +178,11 @@ True
 >>> from tellrounds.changes import stretch_tree
 >>> stretch_tree(D, 2)
 (3, ((0, 1, 10), (0, 2, 2)))
+""",
+    39: """
+>>> from tellrounds.schedules import walk_calls
+>>> list(walk_calls(T, 1))
+[(0, 1, 3), (1, 1, 0), (1, 3, 4), (2, 1, 2)]
 """,
     40: """
 >>> from tellrounds.books import Book
@@ -249,6 +279,20 @@ raises ParseError(2)
 >>> parse_tree('vertices 2\\nedge 0 1 5')
 raises ParseError(2)
 """,
+    56: """
+>>> from tellrounds.books import Book
+>>> from tellrounds.consoles import Console
+>>> B = Book(T)
+>>> Console(B).execute('latest 3')
+'0 1 3 2 3'
+""",
+    57: """
+>>> from tellrounds.books import Book
+>>> from tellrounds.consoles import Console
+>>> B = Book(T)
+>>> Console(B).transcript()
+()
+""",
 }
 
 README = pathlib.Path(__file__).resolve().parent.parent / "README.md"
@@ -274,6 +318,9 @@ class ExamplesTest(unittest.TestCase):
         self.assertTrue(examples)
         for example in examples:
             self.assertEqual(show_outcome(example.source, names), example.want, example.source)
+
+    def test_every_point_with_an_example(self):
+        self.assertEqual(list(EXAMPLES), list(range(5, 58)))
 
     def test_document(self):
         for point, text in EXAMPLES.items():

@@ -4,19 +4,22 @@ import random
 import unittest
 
 from tellrounds.books import Book
+from tellrounds.collecting import collect_time, is_collection, reverse_schedule
 from tellrounds.growth import add_leaf, cut_branch, join_trees, joined_need, spare_of
-from tellrounds.needs import all_needs, branch_need, need_from
+from tellrounds.needs import all_needs, best_sources, branch_need, need_from
+from tellrounds.plains import full_tree, source_star
 from tellrounds.schedules import arrivals_of, best_schedule, finish_time, is_schedule, latest_arrivals
 from tellrounds.texts import format_tree
-from tellrounds.trees import branch_of
+from tellrounds.trees import branch_of, is_plain, neighbours_of
 from tellrounds.witnesses import check_certificate, find_witness, witness_value
 from tests.model import answers_of, outcome_of
 from tests.oracles import (
-    all_witnesses, delays_of, is_right_schedule, least_finish, right_arrivals, right_witness_value, schedules_until,
+    all_witnesses, collections_until, delays_of, is_right_schedule, least_finish, right_arrivals, right_collect_time,
+    right_witness_value, schedules_until,
 )
 from tests.samples import (
-    D, LARGE, MIXED_LARGE, MIXED_SMALL, MOST, T, all_plain_trees, heap_tree, make_tree, mixed_trees, path_tree,
-    star_tree, vary_delays,
+    D, LARGE, LARGE_PLAIN, MIXED_LARGE, MIXED_SMALL, MOST, T, all_distances, all_plain_trees, heap_tree, make_tree,
+    mixed_trees, path_tree, star_tree, vary_delays,
 )
 
 ONE = (1, ())
@@ -105,6 +108,80 @@ class LatestArrivalsTest(unittest.TestCase):
                     finish = finish_time(tree, source, entries)
                     for time in (need_from(tree, source), finish - 1, finish, finish + 1):
                         self.check(tree, source, entries, time)
+
+
+class BestSourcesTest(unittest.TestCase):
+    """(c)"""
+
+    def check(self, tree, needs):
+        best = best_sources(tree)
+        self.assertEqual(best, tuple(k for k in range(tree[0]) if needs[k] == min(needs)))
+        centre, others = source_star(tree)
+        self.assertEqual(tuple(sorted((centre, *others))), best)
+        self.assertGreaterEqual(len(others), 1)
+        self.assertLessEqual(set(others), set(neighbours_of(tree, centre)))
+        for vertex in range(tree[0]):
+            nearest = min(all_distances(tree)[vertex][other] for other in best)
+            self.assertEqual(needs[vertex], min(needs) + nearest)
+
+    def test_all_small_plain_trees(self):
+        for count in range(2, 7):
+            for tree in all_plain_trees(count):
+                self.check(tree, all_needs(tree))
+
+    def test_small_by_all_orders_of_calls(self):
+        for count in range(2, 6):
+            for tree in all_plain_trees(count):
+                self.check(tree, [least_finish(tree, source) for source in range(count)])
+
+    def test_large(self):
+        for tree in LARGE_PLAIN + mixed_trees(7, MOST, 120, 1, 61):
+            self.check(tree, all_needs(tree))
+
+
+class CollectingTest(unittest.TestCase):
+    """(e)"""
+
+    def test_all_collections(self):
+        for tree in TINY:
+            for target in range(tree[0]):
+                need = need_from(tree, target)
+                times = [right_collect_time(tree, target, value) for value in collections_until(tree, target, need)]
+                self.assertEqual(min(times), need, (tree, target))
+
+    def test_accepted_collections_and_schedules(self):
+        for tree in TINY:
+            for target in range(tree[0]):
+                need = need_from(tree, target)
+                for value in collections_until(tree, target, min(need + 1, 5)):
+                    self.assertIs(is_collection(tree, target, value), True)
+                    self.assertGreaterEqual(collect_time(tree, target, value), need)
+
+    def test_the_reverse_of_a_best_schedule(self):
+        for tree in [ONE, T, D, *MIXED_SMALL, *LARGE, *MIXED_LARGE]:
+            for target in range(tree[0]):
+                value = reverse_schedule(tree, target, best_schedule(tree, target))
+                self.assertIs(is_collection(tree, target, value), True)
+                self.assertEqual(collect_time(tree, target, value), need_from(tree, target))
+
+
+class LargestTreesTest(unittest.TestCase):
+    """(h)"""
+
+    def test_no_plain_tree_is_larger(self):
+        for tree in [tree for count in range(1, 7) for tree in all_plain_trees(count)]:
+            self.assertLessEqual(tree[0], 2 ** min(all_needs(tree)))
+        for tree in LARGE_PLAIN + mixed_trees(7, MOST, 200, 1, 62):
+            self.assertLessEqual(tree[0], 2 ** min(all_needs(tree)))
+
+    def test_full_trees_are_as_large(self):
+        for rounds in range(5):
+            tree = full_tree(rounds)
+            self.assertIs(is_plain(tree), True)
+            self.assertEqual((tree[0], need_from(tree, 0)), (2 ** rounds, rounds))
+            if rounds < 4:
+                for vertex in range(tree[0]):
+                    self.assertGreater(need_from(add_leaf(tree, vertex, 1), 0), rounds)
 
 
 class SameBranchTest(unittest.TestCase):

@@ -30,6 +30,18 @@ FUNCTIONS = {
         latest_arrivals(tree, source, time)
         walk_calls(tree, source)
     """,
+    "counting": """
+        count_schedules(tree, source, time)
+    """,
+    "plains": """
+        source_star(tree)
+        full_tree(rounds)
+    """,
+    "collecting": """
+        is_collection(tree, target, value)
+        collect_time(tree, target, collection)
+        reverse_schedule(tree, source, schedule)
+    """,
     "witnesses": """
         witness_value(tree, source, value)
         find_witness(tree, source)
@@ -81,11 +93,16 @@ BOOK = """
     size_of(name)
     copy(self)
 """
+CONSOLE = """
+    execute(self, line)
+    transcript(self)
+"""
 CLASSES = {
     ("books", "Book", "(tree)"): BOOK,
     ("books", "SwiftBook", "(tree, most=None)"): "copy(self)",
+    ("consoles", "Console", "(book)"): CONSOLE,
 }
-SPECIAL = {"Book": ("__init__", "__len__", "__eq__", "__str__"), "SwiftBook": ("__init__",)}
+SPECIAL = {"Book": ("__init__", "__len__", "__eq__", "__str__"), "SwiftBook": ("__init__",), "Console": ("__init__",)}
 
 
 class InterfaceTest(unittest.TestCase):

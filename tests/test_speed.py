@@ -3,11 +3,14 @@
 import time
 import unittest
 
-from tellrounds import changes, growth, needs, schedules, texts, trees, witnesses
+from tellrounds import changes, collecting, counting, growth, needs, plains, schedules, texts, trees, witnesses
 from tellrounds.books import Book, SwiftBook
-from tellrounds.bounds import BATCH
+from tellrounds.bounds import BATCH, COUNTED, COUNT_TIME
+from tellrounds.consoles import Console
 from tests.model import answers_of
-from tests.samples import LARGE, MIXED_LARGE, MOST
+from tests.samples import (
+    LARGE, LARGE_PLAIN, MIXED_LARGE, MOST, all_plain_trees, caterpillar, heap_tree, mixed_trees, path_tree, star_tree,
+)
 
 # Far more than any of these calls takes, so that a busy machine does not matter.
 SECONDS = 0.5
@@ -19,6 +22,7 @@ def calls_for(tree):
     away = trees.neighbours_of(tree, last)[0]
     best = schedules.best_schedule(tree, last)
     witness = witnesses.find_witness(tree, last)
+    collection = collecting.reverse_schedule(tree, last, best)
     small = (1, ())
     branch, rest = growth.cut_branch(tree, last, away)
     return [
@@ -50,6 +54,9 @@ def calls_for(tree):
         ("join_trees", lambda: growth.join_trees(rest, 0, branch, 0, 1)),
         ("join_all", lambda: growth.join_all(*[small] * MOST)),
         ("cut_branch", lambda: growth.cut_branch(tree, last, away)),
+        ("is_collection", lambda: collecting.is_collection(tree, last, collection)),
+        ("collect_time", lambda: collecting.collect_time(tree, last, collection)),
+        ("reverse_schedule", lambda: collecting.reverse_schedule(tree, last, best)),
         ("set_delay", lambda: changes.set_delay(tree, last, away, 7)),
         ("move_branch", lambda: changes.move_branch(tree, last, away, away)),
         ("relabel_tree", lambda: changes.relabel_tree(tree, tuple(range(last, -1, -1)))),
@@ -72,6 +79,31 @@ class SpeedTest(unittest.TestCase):
                 before = time.process_time()
                 call()
                 self.assertLess(time.process_time() - before, SECONDS, (name, tree))
+
+    def test_counting_at_its_limits(self):
+        shapes = [path_tree(range(COUNTED)), star_tree(COUNTED, 4), heap_tree(COUNTED), caterpillar(COUNTED)]
+        for tree in shapes + mixed_trees(COUNTED, COUNTED, 20, 2, 51):
+            for source in range(COUNTED):
+                before = time.process_time()
+                counting.count_schedules(tree, source, COUNT_TIME)
+                self.assertLess(time.process_time() - before, SECONDS, (tree, source))
+
+    def test_plain_trees(self):
+        for tree in LARGE_PLAIN + all_plain_trees(5):
+            before = time.process_time()
+            plains.source_star(tree)
+            plains.full_tree(4)
+            self.assertLess(time.process_time() - before, SECONDS, tree)
+
+    def test_consoles(self):
+        for tree in LARGE:
+            console = Console(Book(tree))
+            for line in ("delay 0 1 5", "undo", "start 15", "need", "source", "needs", "best", "schedule", "free 1",
+                         "latest 9999999999999", "grow 0 1", "prune 15", "move 0 1 2", "x"):
+                before = time.process_time()
+                console.execute(line)
+                console.transcript()
+                self.assertLess(time.process_time() - before, SECONDS, (tree, line))
 
     def test_long_texts(self):
         for text in ("7" * 4000 + " -", "1 " * 2000 + "-", "-" + " 123456789" * 400):
